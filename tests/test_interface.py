@@ -1,0 +1,59 @@
+"""The names of the interface, where they are defined, and the names of their parameters."""
+
+import importlib
+import inspect
+import unittest
+
+FUNCTIONS = {
+    "basics": "is_integer(value) is_count(value) is_list(value)",
+    "rows": "is_row(value)",
+    "tables": "idle(size) is_idle(table) turned(table,other) polynomial(table) beside(table,other) "
+              "rests_alike(table,other,modulus)",
+    "words": "is_word(value,many) product(makers,word) shortened(word) contrary_word(word) words_to(makers,many)",
+    "forms": "sum_form(size) corners(form) signs(form)",
+    "squares": "squares(form) is_squares(form,value)",
+    "bowls": "is_bowl(form) pit(form) is_pit(form,value) bowl_bound(bowl,place,many)",
+    "equations": "solution_basis(equations) is_solution(equations,value) is_solution_basis(equations,value)",
+    "kept": "keeps(table,form) kept_forms(makers) is_kept_basis(makers,value) kept_rank(makers) "
+            "kept_parts(makers,basis,form) kept_rows(makers) is_rows_basis(makers,value)",
+}
+METHODS = {
+    ("tables", "Table"): "__init__(rows) lead(row) undone() power(number) rests(modulus) __eq__(other) __repr__() "
+                         "__mul__(other)",
+    ("forms", "Form"): "__init__(rows) worth(row) between(row,other) times(number) led(table) divisor() single() "
+                       "__eq__(other) __repr__() __add__(other)",
+}
+PROPERTIES = {("tables", "Table"): "rows size determinant trace", ("forms", "Form"): "rows size determinant"}
+
+
+def listed(text):
+    for part in text.split():
+        name, _, rest = part.partition("(")
+        yield name, [word for word in rest.rstrip(")").split(",") if word]
+
+
+class Interface(unittest.TestCase):
+    def test_functions(self):
+        for file, text in FUNCTIONS.items():
+            module = importlib.import_module(f"keptbowls.{file}")
+            for name, parameters in listed(text):
+                with self.subTest(name=name):
+                    made = getattr(module, name)
+                    self.assertTrue(inspect.isfunction(made))
+                    self.assertEqual(made.__module__, f"keptbowls.{file}")
+                    self.assertEqual(list(inspect.signature(made).parameters), parameters)
+
+    def test_methods_stand_in_their_class(self):
+        for (file, kind), text in METHODS.items():
+            made = getattr(importlib.import_module(f"keptbowls.{file}"), kind)
+            self.assertEqual([made.__module__, made.__bases__], [f"keptbowls.{file}", (object,)])
+            for name, parameters in listed(text):
+                with self.subTest(name=name):
+                    self.assertIn(name, vars(made))
+                    self.assertEqual(list(inspect.signature(vars(made)[name]).parameters)[1:], parameters)
+
+    def test_properties_stand_in_their_class(self):
+        for (file, kind), text in PROPERTIES.items():
+            made = getattr(importlib.import_module(f"keptbowls.{file}"), kind)
+            for name in text.split():
+                self.assertIsInstance(vars(made)[name], property)
