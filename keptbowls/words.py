@@ -59,7 +59,7 @@ def shortened(word):
 def contrary_word(word):
     """The word from behind, each letter as its contrary."""
     check_word(word, MOST_MAKERS)
-    return [-letter for letter in reversed(word)]
+    return [-letter for letter in word[::-1]]
 
 
 def words_to(makers, many):

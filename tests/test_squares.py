@@ -88,6 +88,12 @@ class IsSquares(Case):
         self.assertIs(is_squares(Form([[1]]), [(1, (True,))]), False)
         self.assertIs(is_squares(Form([[1]]), [(1, (1,))]), True)
 
+    def test_noughts_at_the_own_place(self):
+        for rows, value in (([[0]], [(1, (0,))]), ([[1, 1], [1, 1]], [(1, (1, 1)), (1, (0, 0))]),
+                            ([[0, 0], [0, 4]], [(1, (0, 0)), (1, (0, 2))]), ([[0, 0], [0, 4]], [(1, (0, 2)), (1, (0, 0))]),
+                            ([[1, 0, 0], [0, 0, 0], [0, 0, 1]], [(1, (1, 0, 0)), (1, (0, 0, 1)), (1, (0, 0, 0))])):
+            self.assertIs(is_squares(Form(rows), value), False)
+
     def test_each_number_counts(self):
         told = squares(WELL)
         for place in range(3):
