@@ -1,5 +1,7 @@
 """What is asked of any value at all."""
 
+from keptbowls.errors import InvalidMany
+
 
 def is_integer(value):
     """Whether the value is an INTEGER."""
@@ -14,3 +16,9 @@ def is_count(value):
 def is_list(value):
     """Whether the value is a list or a tuple."""
     return isinstance(value, (list, tuple))
+
+
+def check_many(many, most):
+    """InvalidMany unless it is a COUNT of at most so much."""
+    if not is_count(many) or many > most:
+        raise InvalidMany(many)

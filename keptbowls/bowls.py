@@ -2,8 +2,8 @@
 
 from math import isqrt
 
-from keptbowls.basics import is_count
-from keptbowls.errors import InvalidBowl, InvalidMany, InvalidPlace
+from keptbowls.basics import check_many, is_count
+from keptbowls.errors import InvalidBowl, InvalidPlace
 from keptbowls.forms import Form, check_form, corners
 from keptbowls.grids import cofactor, leading
 from keptbowls.rows import is_row_of
@@ -45,6 +45,5 @@ def bowl_bound(bowl, place, many):
     check_bowl(bowl)
     if not is_count(place) or place >= bowl.size:
         raise InvalidPlace(place)
-    if not is_count(many) or many > MOST_WORTH:
-        raise InvalidMany(many)
+    check_many(many, MOST_WORTH)
     return isqrt(many * cofactor(bowl.rows, place, place) // bowl.determinant)

@@ -70,6 +70,11 @@ def cofactor(rows, at, place):
     return left if (at + place) % 2 == 0 else -left
 
 
+def rests_of(rows, modulus):
+    """What the numbers of the rows leave by the modulus."""
+    return tuple([tuple([number % modulus for number in row]) for row in rows])
+
+
 def trace_of(rows):
     """The numbers at (i, i) added up."""
     return sum([row[at] for at, row in enumerate(rows)])

@@ -3,7 +3,7 @@
 from keptbowls.basics import is_integer
 from keptbowls.errors import InvalidModulus, InvalidNumber, InvalidRows, InvalidTable, NotUndone, TooMany, UnlikeSizes
 from keptbowls.grids import check_size, cofactor, copied, determinant_of, is_grid, led_row, multiplied
-from keptbowls.grids import polynomial_of, trace_of, unit_rows
+from keptbowls.grids import polynomial_of, rests_of, trace_of, unit_rows
 from keptbowls.rows import check_row
 
 
@@ -76,9 +76,8 @@ class Table:
 
     def rests(self, modulus):
         """The rests of the table, a tuple of tuples."""
-        if not is_integer(modulus) or not 2 <= modulus <= 1000:
-            raise InvalidModulus(modulus)
-        return tuple([tuple([number % modulus for number in row]) for row in self._rows])
+        check_modulus(modulus)
+        return rests_of(self._rows, modulus)
 
 
 def check_table(table):
@@ -91,6 +90,17 @@ def check_alike(one, other):
     """UnlikeSizes unless both, Tables or Forms, have one size."""
     if one.size != other.size:
         raise UnlikeSizes()
+
+
+def check_modulus(modulus):
+    """InvalidModulus unless it is an integer from 2 to 1,000."""
+    if not is_integer(modulus) or not 2 <= modulus <= 1000:
+        raise InvalidModulus(modulus)
+
+
+def in_sequence(tables):
+    """The Tables of the list, sorted by their rows."""
+    return sorted(tables, key=lambda table: table.rows)
 
 
 def idle(size):

@@ -1,8 +1,8 @@
 """Words: lists of the numbers of makers, and their products."""
 
-from keptbowls.basics import is_count, is_integer, is_list
+from keptbowls.basics import check_many, is_integer, is_list
 from keptbowls.errors import InvalidMakers, InvalidMany, InvalidWord
-from keptbowls.tables import Table, idle
+from keptbowls.tables import Table, idle, in_sequence
 
 MOST_MAKERS = 4
 MOST_LETTERS = 60
@@ -65,17 +65,21 @@ def contrary_word(word):
 def words_to(makers, many):
     """The sorted list of the products of words of at most many letters, each once."""
     check_makers(makers)
-    if not is_count(many) or many > MOST_WALKED:
-        raise InvalidMany(many)
-    numbers = list(range(1, len(makers) + 1))
-    steps = [_of_letter(makers, letter) for number in numbers for letter in (number, -number)]
+    check_many(many, MOST_WALKED)
+    steps = [step for _, step in letter_steps(makers)]
     edge = [idle(makers[0].size)]
     found = {edge[0].rows: edge[0]}
     for _ in range(many):
         edge = _new_products(edge, steps, found)
         for table in edge:
             found[table.rows] = table
-    return [found[rows] for rows in sorted(list(found))]
+    return in_sequence(list(found.values()))
+
+
+def letter_steps(makers):
+    """Pairs of each letter and the Table for which it stands."""
+    letters = [letter for number in range(1, len(makers) + 1) for letter in (number, -number)]
+    return [(letter, _of_letter(makers, letter)) for letter in letters]
 
 
 def _of_letter(makers, letter):

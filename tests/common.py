@@ -3,9 +3,11 @@
 import copy
 import random
 import unittest
-from itertools import permutations
+from itertools import permutations, product
+from math import isqrt
 
 from keptbowls.forms import Form
+from keptbowls.lots import Lot
 from keptbowls.tables import Table, idle
 
 BIG = 10 ** 29 + 7
@@ -17,6 +19,35 @@ class Odd:
 
 # No INTEGER, row, grid, list of them, Table or Form is among these.
 WRONG = [None, True, False, "", "1", "ab", b"1", {}, {1: 2}, {1}, frozenset(), range(2), Odd(), Odd, len, 1j, ...]
+
+# The rows of forms that are no bowls.
+NO_BOWLS = [[[0]], [[-1]], [[-BIG]], [[0, 0], [0, 0]], [[1, 2], [2, 1]], [[1, 1], [1, 1]], [[0, 1], [1, 0]],
+            [[0, 1], [1, 5]], [[-1, 0], [0, -1]], [[-1, 3], [3, 5]], [[0, 0, 0], [0, 0, 0], [0, 0, 0]],
+            [[0, 0, 0], [0, 1, 0], [0, 0, 1]], [[1, 1, 0], [1, 1, 0], [0, 0, 1]], [[1, 2, 0], [2, 1, 0], [0, 0, -1]],
+            [[2, 1, 1], [1, 2, 1], [1, 1, 0]], [[1, 0, 0], [0, 1, 0], [0, 0, 0]], [[1, 1, 1], [1, 2, 2], [1, 2, 2]],
+            [[2, 1, 5], [1, 2, 5], [5, 5, 1]], [[-1, 0, 0], [0, -1, 0], [0, 0, 1]], [[1, 0, BIG], [0, 1, 0], [BIG, 0, 1]]]
+# The makers of finite lots, and how many members these have.
+PLANE = {"1": ([[[1, 0], [0, 1]]], 1), "2": ([[[-1, 0], [0, -1]]], 2), "3": ([[[-1, -1], [1, 0]]], 3),
+         "4": ([[[0, -1], [1, 0]]], 4), "6": ([[[0, -1], [1, 1]]], 6), "m": ([[[1, 0], [0, -1]]], 2),
+         "c": ([[[0, 1], [1, 0]]], 2), "2mm": ([[[-1, 0], [0, -1]], [[1, 0], [0, -1]]], 4),
+         "c2mm": ([[[-1, 0], [0, -1]], [[0, 1], [1, 0]]], 4), "3m1": ([[[-1, -1], [1, 0]], [[0, 1], [1, 0]]], 6),
+         "31m": ([[[-1, -1], [1, 0]], [[0, -1], [-1, 0]]], 6), "4mm": ([[[0, -1], [1, 0]], [[1, 0], [0, -1]]], 8),
+         "6mm": ([[[0, -1], [1, 1]], [[0, 1], [1, 0]]], 12)}
+QUARTER, ROUND = [[0, -1, 0], [1, 0, 0], [0, 0, 1]], [[0, 0, 1], [1, 0, 0], [0, 1, 0]]
+CONTRARY, UPSIDE = [[-1, 0, 0], [0, -1, 0], [0, 0, -1]], [[1, 0, 0], [0, 1, 0], [0, 0, -1]]
+SIXTH, LEFTWARDS = [[0, -1, 0], [1, 1, 0], [0, 0, 1]], [[-1, 0, 0], [0, 1, 0], [0, 0, 1]]
+SPACE = [([[[1, 0, 0], [0, 1, 0], [0, 0, 1]]], 1), ([CONTRARY], 2), ([UPSIDE], 2), ([ROUND], 3), ([QUARTER], 4),
+         ([SIXTH], 6), ([UPSIDE, CONTRARY], 4), ([UPSIDE, LEFTWARDS, CONTRARY], 8), ([QUARTER, CONTRARY], 8),
+         ([QUARTER, UPSIDE, LEFTWARDS], 16), ([SIXTH, CONTRARY], 12), ([ROUND, UPSIDE], 24), ([QUARTER, ROUND], 24), ([ROUND, [[-1, 0, 0], [0, -1, 0], [1, 1, 1]]], 24),
+         ([SIXTH, UPSIDE, [[0, 1, 0], [1, 0, 0], [0, 0, 1]]], 24), ([QUARTER, ROUND, CONTRARY], 48),
+         ([QUARTER, ROUND, CONTRARY, UPSIDE], 48)]
+# The makers of endless lots; those of the first four all come home.
+ENDLESS = [[[[1, 0], [0, -1]], [[1, 1], [0, -1]]], [[[0, -1], [1, 0]], [[0, -1], [1, 1]]],
+           [[[-1, 0, 0], [0, 1, 0], [0, 0, 1]], [[-1, 0, 1], [0, 1, 0], [0, 0, 1]]],
+           [ROUND, [[-1, 0, 0], [0, -1, 0], [1, 0, 1]]],
+           [[[1, 1], [0, 1]]], [[[-1, 1], [0, -1]]], [[[2, 1], [1, 1]]], [[[0, 1], [1, 1]]], [[[1, 3], [0, 1]]],
+           [[[-1, 0], [0, -1]], [[1, 0], [5, 1]]], [[[1, BIG], [0, 1]]], [[[1, 0, 0], [0, 1, 7], [0, 0, 1]]],
+           [[[0, 0, 1], [1, 0, 0], [0, 1, 1]]], [[[0, -1, 1], [1, 0, 0], [0, 0, 1]], [[0, -1, 0], [1, 0, 0], [0, 0, 1]]]]
 
 
 class Case(unittest.TestCase):
@@ -109,6 +140,72 @@ def some_grids(size, many, seed=1, greatest=4):
                 rows[i][j] = rows[j][i] = source.randint(-greatest, greatest)
         told.append(rows)
     return told
+
+
+def worth_by_hand(rows, row):
+    many = range(len(rows))
+    return sum(row[i] * rows[i][j] * row[j] for i in many for j in many)
+
+
+def rows_in_box(rows, many):
+    """The sorted list of all rows of a worth of at most many, tried one by one in a box that has all."""
+    size = len(rows)
+    whole = by_hand(rows)
+    sides = []
+    for place in range(size):
+        left = [[rows[i][j] for j in range(size) if j != place] for i in range(size) if i != place]
+        far = isqrt(many * by_hand(left) // whole)
+        sides.append(range(-far, far + 1))
+    return [row for row in product(*sides) if worth_by_hand(rows, row) <= many]
+
+
+def some_bowls(size, many, seed=1, greatest=3):
+    """The rows of bowls, each the sums of products of the columns of a grid that has a determinant."""
+    source = random.Random(f"bowl {size} {many} {seed}")
+    told = []
+    while len(told) < many:
+        lines = [[source.randint(-greatest, greatest) for _ in range(size)] for _ in range(size + source.randint(0, 1))]
+        rows = [[sum(line[i] * line[j] for line in lines) for j in range(size)] for i in range(size)]
+        if by_hand(rows) != 0:
+            told.append(rows)
+    return told
+
+
+def some_lots():
+    """Lots that are finite, with their count, and endless ones, with None."""
+    for makers, many in [([[[1]]], 1), ([[[-1]]], 2), ([[[1]], [[-1]], [[1]], [[-1]]], 2)] + list(PLANE.values()) + SPACE:
+        yield Lot([Table(rows) for rows in makers]), many
+    for makers in ENDLESS:
+        yield Lot([Table(rows) for rows in makers]), None
+
+
+def finite_lots(most=48):
+    return [lot for lot, many in some_lots() if many is not None and many <= most]
+
+
+def endless_lots():
+    return [lot for lot, many in some_lots() if many is None]
+
+
+def members_by_hand(makers, most=60):
+    """The rows of all products of makers and of undone ones, sorted; of an endless lot some."""
+    steps = [maker.rows for maker in makers] + [maker.undone().rows for maker in makers]
+    found = {idle(makers[0].size).rows}
+    edge = list(found)
+    while edge and len(found) < most:
+        edge = sorted({grids_times(one, step) for one in edge for step in steps} - found)
+        found.update(edge)
+    return sorted(found)
+
+
+def wrong_bowls():
+    """What is no bowl, of every kind."""
+    return WRONG + [0, 1, (1,), [[1]], idle(2), Form, [Form([[1]])]] + [Form(rows) for rows in NO_BOWLS]
+
+
+def wrong_lots():
+    """What is no Lot, of every kind."""
+    return WRONG + [0, 1, idle(2), [idle(2)], (idle(2),), Form([[1]]), Lot]
 
 
 def wrong_makers():

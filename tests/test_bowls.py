@@ -1,6 +1,6 @@
 from itertools import product
 
-from common import BIG, WRONG, Case, by_hand, some_grids, some_tables
+from common import BIG, NO_BOWLS, WRONG, Case, by_hand, some_grids, some_tables
 from keptbowls.bowls import bowl_bound, is_bowl, is_pit, pit
 from keptbowls.errors import InvalidBowl, InvalidForm, InvalidMany, InvalidPlace
 from keptbowls.forms import Form, sum_form
@@ -8,11 +8,6 @@ from keptbowls.tables import idle
 
 SIX = Form([[2, 1], [1, 2]])
 SKEW = Form([[5, 7], [7, 10]])
-NO_BOWLS = [[[0]], [[-1]], [[-BIG]], [[0, 0], [0, 0]], [[1, 2], [2, 1]], [[1, 1], [1, 1]], [[0, 1], [1, 0]],
-            [[0, 1], [1, 5]], [[-1, 0], [0, -1]], [[-1, 3], [3, 5]], [[0, 0, 0], [0, 0, 0], [0, 0, 0]],
-            [[0, 0, 0], [0, 1, 0], [0, 0, 1]], [[1, 1, 0], [1, 1, 0], [0, 0, 1]], [[1, 2, 0], [2, 1, 0], [0, 0, -1]],
-            [[2, 1, 1], [1, 2, 1], [1, 1, 0]], [[1, 0, 0], [0, 1, 0], [0, 0, 0]], [[1, 1, 1], [1, 2, 2], [1, 2, 2]],
-            [[2, 1, 5], [1, 2, 5], [5, 5, 1]], [[-1, 0, 0], [0, -1, 0], [0, 0, 1]], [[1, 0, BIG], [0, 1, 0], [BIG, 0, 1]]]
 BOWLS = [[[1]], [[BIG]], [[2, 1], [1, 2]], [[5, 7], [7, 10]], [[1, 0], [0, 1]], [[2, 1, 0], [1, 2, 1], [0, 1, 2]],
          [[1, 0, 0], [0, 50, 7], [0, 7, 1]], [[BIG, 1], [1, BIG]]]
 

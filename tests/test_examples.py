@@ -50,6 +50,66 @@ EXAMPLES = """
 [1, 0, [-3], []]
 >>> [is_rows_basis([slant], [(1, 0)]), is_rows_basis([slant], [[-1, 0]]), is_rows_basis([slant], [(2, 0)])]
 [True, True, False]
+
+>>> from keptbowls.shorts import is_short_list, rows_of_worth, short_rows
+>>> hexagon, skew = Form([[2, 1], [1, 2]]), Form([[5, 7], [7, 10]])
+>>> [short_rows(skew, 1), rows_of_worth(hexagon, 2) == short_rows(hexagon, 2)[:3] + short_rows(hexagon, 2)[4:]]
+[[(-3, 2), (-1, 1), (0, 0), (1, -1), (3, -2)], True]
+>>> [is_short_list(skew, 1, [[0, 0], (1, -1), [-1, 1], (3, -2), (-3, 2)]), is_short_list(skew, 1, [(0, 0), (1, -1)])]
+[True, False]
+
+>>> from keptbowls.counts import unlike_worth, worth_counts
+>>> [worth_counts(hexagon, 6), worth_counts(skew, 5), unlike_worth(skew, sum_form(2), 40), unlike_worth(hexagon, skew, 6)]
+[[1, 0, 6, 0, 0, 0, 6], [1, 4, 4, 0, 4, 8], None, 1]
+
+>>> from keptbowls.least import is_step_rows, least_rows, least_worth, step_rows, steps_of
+>>> far = Form([[1, 0, 0], [0, 50, 7], [0, 7, 1]])
+>>> [least_worth(hexagon), least_rows(skew), steps_of(far), steps_of(Form([[9, 0], [0, 2]]))]
+[2, [(-3, 2), (-1, 1), (1, -1), (3, -2)], [1, 1, 1], [2, 9]]
+>>> [is_step_rows(far, step_rows(far)), is_step_rows(hexagon, [(1, 0), (1, -1)]), is_step_rows(hexagon, [(1, 0), (-1, 0)])]
+[True, True, False]
+
+>>> from keptbowls.orders import home, order, rest_order
+>>> from keptbowls.tables import Table
+>>> turn, slant = Table([[0, -1], [1, 1]]), Table([[1, 1], [0, 1]])
+>>> [order(turn), order(slant), home(turn, -12), home(slant, 0), rest_order(slant)]
+[6, None, True, True, 3]
+
+>>> from keptbowls.lots import Lot
+>>> lot, wide = Lot([turn, Table([[0, 1], [1, 0]])]), Lot([slant])
+>>> [lot.total, wide.total, lot.has(Table([[-1, 0], [0, -1]])), len(lot.word_of(turn * turn)), wide.product([1, 1, -1]) == slant]
+[12, None, True, 2, True]
+>>> Lot([slant])
+Lot([Table(((1, 1), (0, 1)))])
+
+>>> from keptbowls.forms import Form
+>>> from keptbowls.verdicts import endless_paper, is_bowl_paper, is_endless_paper, kept_bowl, rest_members
+>>> [kept_bowl(lot) == Form([[2, 1], [1, 2]]), is_bowl_paper(lot, Form([[4, 2], [2, 4]])), endless_paper(lot), len(rest_members(lot, 2))]
+[True, True, None, 6]
+>>> [is_endless_paper(wide, ([1], 3)), is_endless_paper(wide, ([1], 2)), is_endless_paper(wide, [[1] * many for many in range(13)])]
+[True, False, True]
+
+>>> from keptbowls.parts import beside_lots, is_within, same_members, shares, turned_lot
+>>> turn, flip = Table(((0, -1), (1, 0))), Table(((1, 0), (0, -1)))
+>>> square, four = Lot([turn, flip]), Lot([turn])
+>>> [is_within(four, square), same_members(square, Lot([flip, flip * turn])), [len(one) for one in shares(square, four)], turned_lot(four, flip).makers() == [turn.undone()], beside_lots(four, Lot([Table(((-1,),))])).total]
+[True, True, [4, 4], True, 8]
+
+>>> from keptbowls.classes import classes, goes_together, middle, orders_of, turned_members
+>>> [[one.rows for one in turned_members(square, flip)], [len(one) for one in classes(square)], [one.rows for one in middle(square)]]
+[[((-1, 0), (0, 1)), ((1, 0), (0, -1))], [1, 2, 2, 2, 1], [((-1, 0), (0, -1)), ((1, 0), (0, 1))]]
+>>> [goes_together(square), goes_together(four), orders_of(square)]
+[False, True, {1: 1, 2: 5, 4: 2}]
+
+>>> from keptbowls.makers import fewest_makers, is_makers, made_by, some_makers, sub_lots
+>>> [fewest_makers(square), some_makers(Lot([idle(3)])), is_makers(square, [flip, turn]), is_makers(square, [turn]), sub_lots(square), made_by(square, [turn * turn]).total]
+[2, [], True, False, 10, 2]
+
+>>> from keptbowls.keepers import is_keeper, keepers, keepers_lot
+>>> [len(keepers(hexagon)), keepers(Form([[5]])), is_keeper(hexagon, Table([[0, -1], [1, 1]])), is_keeper(hexagon, [[0, -1], [1, 1]])]
+[12, [Table(((-1,),)), Table(((1,),))], True, False]
+>>> [keepers_lot(sum_form(3)).total, keepers_lot(skew).members() == keepers(skew)]
+[48, True]
 """
 
 
@@ -59,7 +119,7 @@ class Examples(unittest.TestCase):
         said = []
         told = doctest.DocTestRunner(verbose=False).run(held, out=said.append)
         self.assertEqual(told.failed, 0, "".join(said))
-        self.assertEqual(told.attempted, 25)
+        self.assertEqual(told.attempted, 59)
 
     def test_examples_of_the_readme(self):
         with open(README, encoding="utf-8") as source:

@@ -16,14 +16,28 @@ FUNCTIONS = {
     "equations": "solution_basis(equations) is_solution(equations,value) is_solution_basis(equations,value)",
     "kept": "keeps(table,form) kept_forms(makers) is_kept_basis(makers,value) kept_rank(makers) "
             "kept_parts(makers,basis,form) kept_rows(makers) is_rows_basis(makers,value)",
+    "shorts": "short_rows(bowl,many) rows_of_worth(bowl,many) is_short_list(bowl,many,value)",
+    "counts": "worth_counts(bowl,many) unlike_worth(bowl,goal,many)",
+    "least": "least_worth(bowl) least_rows(bowl) steps_of(bowl) step_rows(bowl) is_step_rows(bowl,value)",
+    "orders": "order(table) home(table,number) rest_order(table)",
+    "verdicts": "kept_bowl(lot) is_bowl_paper(lot,value) endless_paper(lot) is_endless_paper(lot,value) "
+                "rest_members(lot,modulus)",
+    "parts": "same_members(lot,other_lot) is_within(sub,lot) shares(lot,sub) turned_lot(lot,table) "
+             "beside_lots(lot,other_lot)",
+    "classes": "turned_members(lot,member) classes(lot) middle(lot) goes_together(lot) orders_of(lot)",
+    "makers": "made_by(lot,members) fewest_makers(lot) some_makers(lot) is_makers(lot,value) sub_lots(lot)",
+    "keepers": "is_keeper(bowl,value) keepers(bowl) keepers_lot(bowl)",
 }
 METHODS = {
     ("tables", "Table"): "__init__(rows) lead(row) undone() power(number) rests(modulus) __eq__(other) __repr__() "
                          "__mul__(other)",
     ("forms", "Form"): "__init__(rows) worth(row) between(row,other) times(number) led(table) divisor() single() "
                        "__eq__(other) __repr__() __add__(other)",
+    ("lots", "Lot"): "__init__(makers) makers() members() has(value) word_of(member) product(word) __eq__(other) "
+                     "__repr__()",
 }
-PROPERTIES = {("tables", "Table"): "rows size determinant trace", ("forms", "Form"): "rows size determinant"}
+PROPERTIES = {("tables", "Table"): "rows size determinant trace", ("forms", "Form"): "rows size determinant",
+              ("lots", "Lot"): "size is_finite total"}
 
 
 def listed(text):

@@ -88,7 +88,8 @@ class Language(unittest.TestCase):
                     self.assertEqual(folder, "keptbowls")
                     comes_from[file].append(f"{module}.py")
                     made = ast.parse(text_of(f"{module}.py")).body
-                    self.assertTrue(names <= {one.name for one in made if hasattr(one, "name")})
+                    told = {one.targets[0].id for one in made if isinstance(one, ast.Assign)}
+                    self.assertTrue(names <= told | {one.name for one in made if hasattr(one, "name")})
         while comes_from:
             ready = [file for file, others in comes_from.items() if not set(others) & set(comes_from)]
             self.assertTrue(ready, "files import from each other")
@@ -102,7 +103,10 @@ class Language(unittest.TestCase):
                 if isinstance(node, ast.Expr):
                     self.assertIsInstance(node.value, ast.Constant)
                 if isinstance(node, ast.Assign):
-                    self.assertIsInstance(node.value, ast.Constant)
+                    self.assertIsInstance(node.targets[0], ast.Name)
+                    told = ast.literal_eval(node.value)
+                    for one in told if isinstance(told, tuple) else (told,):
+                        self.assertIsInstance(one, (int, str))
 
     def test_names_l8_l12_l15_l17(self):
         for _, text, tree in self.each():
@@ -112,7 +116,9 @@ class Language(unittest.TestCase):
                 self.assertFalse(name in BARRED | TAKEN, name)
             imported = {alias.name for node in tree.body if isinstance(node, ast.ImportFrom) for alias in node.names}
             classes = {node.name for node in tree.body if isinstance(node, ast.ClassDef)}
-            self.assertFalse(imported & set(names))
+            methods = [one.name for node in tree.body if isinstance(node, ast.ClassDef) for one in node.body
+                       if isinstance(one, ast.FunctionDef)]
+            self.assertFalse([name for name in imported if names.count(name) > methods.count(name)])
             self.assertEqual([names.count(name) for name in classes], [1] * len(classes))
             for node in ast.walk(tree):
                 if isinstance(node, ast.Name) and isinstance(node.ctx, ast.Load) and node.id in TAKEN:
