@@ -24,7 +24,8 @@ def classes(lot):
         # Members come sorted, so each class comes up by its first member: the list is sorted, too.
         if member.rows not in seen:
             told.append(turned_members(lot, member))
-            seen.update({one.rows: True for one in told[-1]})
+            for one in told[-1]:
+                seen[one.rows] = True
     return told
 
 

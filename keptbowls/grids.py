@@ -61,6 +61,9 @@ def determinant_of(rows):
     """The determinant, 1 where there are no rows."""
     if len(rows) == 0:
         return 1
+    if len(rows) == 2:
+        # The sum below says the same: but most determinants end here, and this is far quicker.
+        return rows[0][0] * rows[1][1] - rows[0][1] * rows[1][0]
     return sum([number * cofactor(rows, 0, place) for place, number in enumerate(rows[0])])
 
 
