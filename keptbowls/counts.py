@@ -22,8 +22,8 @@ def unlike_worth(bowl, goal, many):
     check_bowl(goal)
     check_many(many, MOST_COUNTED)
     check_alike(bowl, goal)
-    pairs = list(zip(_counted(bowl, many), _counted(goal, many)))
-    unlike = [worth for worth, (one, other) in enumerate(pairs) if one != other]
+    counts, others = _counted(bowl, many), _counted(goal, many)
+    unlike = [worth for worth in range(many + 1) if counts[worth] != others[worth]]
     return unlike[0] if len(unlike) > 0 else None
 
 

@@ -32,8 +32,6 @@ def step_rows(bowl):
 def is_step_rows(bowl, value):
     """Whether the value is a list that is step rows of the bowl."""
     steps = steps_of(bowl)
-    if not is_list(value) or len(value) != bowl.size:
+    if not is_list(value) or not all([is_row_of(bowl.size, row) for row in value]):
         return False
-    if not all([is_row_of(bowl.size, row) for row in value]):
-        return False
-    return [bowl.worth(row) for row in value] == steps and determinant_of([tuple(row) for row in value]) != 0
+    return [bowl.worth(row) for row in value] == steps and determinant_of(value) != 0

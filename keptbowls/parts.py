@@ -2,7 +2,7 @@
 
 from keptbowls.errors import NotWithin, TooMany
 from keptbowls.lots import Lot, check_finite, check_lot
-from keptbowls.tables import beside, check_alike, check_table, idle, in_sequence, turned
+from keptbowls.tables import beside, check_alike, idle, in_sequence, turned
 from keptbowls.words import MOST_MAKERS
 
 
@@ -26,16 +26,14 @@ def shares(lot, sub):
     told = {}
     for member in lot.members():
         share = in_sequence([member * other for other in sub.members()])
-        # Two shares with the same first member are one.
+        # Members come sorted, so each share comes up by its first member: the list is sorted, too.
         told[share[0].rows] = share
-    return [told[first] for first in sorted(list(told))]
+    return list(told.values())
 
 
 def turned_lot(lot, table):
     """The Lot of the makers, turned by the table."""
     check_lot(lot)
-    check_table(table)
-    check_alike(lot, table)
     return Lot([turned(maker, table) for maker in lot.makers()])
 
 

@@ -55,7 +55,7 @@ def _shortest(bowl, rows):
     """Rows that have the same whole sums, as short as can be, the shortest one first."""
     if len(rows) == 1:
         return rows
-    told = sorted(rows, key=bowl.worth)
+    told = rows
     while True:
         ahead = _shortest(bowl, told[:-1])
         last = _lessened(bowl, ahead, told[-1])

@@ -4,7 +4,7 @@ from keptbowls.basics import is_integer, is_list
 from keptbowls.bowls import is_bowl
 from keptbowls.forms import Form, sum_form
 from keptbowls.kept import keeps
-from keptbowls.lots import MOST_MEMBERS, check_finite, check_lot, walked
+from keptbowls.lots import MOST_MEMBERS, check_lot, walked
 from keptbowls.orders import order, rest_order
 from keptbowls.tables import check_modulus
 from keptbowls.words import is_word
@@ -15,7 +15,6 @@ MOST_TIMES = 100
 def kept_bowl(lot):
     """The kept bowl of a finite lot, a Form."""
     check_lot(lot)
-    check_finite(lot)
     plain = sum_form(lot.size)
     told = plain.times(0)
     for member in lot.members():
@@ -53,7 +52,6 @@ def rest_members(lot, modulus):
     """The sorted list of the rests that members leave, each once."""
     check_lot(lot)
     check_modulus(modulus)
-    check_finite(lot)
     found = {member.rests(modulus): True for member in lot.members()}
     return sorted(list(found))
 
