@@ -70,10 +70,10 @@ def _lessened(bowl, ahead, row):
     shares = [bowl.between(one, row) for one in ahead]
     whole = determinant_of(grid)
     near = [row]
-    for at, one in enumerate(ahead):
+    for at, shorter in enumerate(ahead):
         low = scalar([cofactor(grid, at, place) for place in range(len(ahead))], shares) // whole
         # The least one is at a corner of the cell in which the fractions lie, as the rows ahead are shortest.
-        near = [_less(line, factor, one) for line in near for factor in (low, low + 1)]
+        near = [_less(line, factor, shorter) for line in near for factor in (low, low + 1)]
     return min(near, key=bowl.worth)
 
 
