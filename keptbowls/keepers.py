@@ -6,7 +6,7 @@ from keptbowls.kept import keeps
 from keptbowls.lots import Lot
 from keptbowls.orders import order
 from keptbowls.shorts import MOST_ROWS, rows_to, shortest_table
-from keptbowls.tables import Table, in_sequence, turned
+from keptbowls.tables import Table, in_sequence
 
 
 def is_keeper(bowl, value):
@@ -18,10 +18,7 @@ def is_keeper(bowl, value):
 def keepers(bowl):
     """The sorted list of all keepers of the bowl."""
     check_bowl(bowl)
-    table = shortest_table(bowl)
-    # The numbers at (i, i) of the led bowl are its steps: no more rows come in question than need be.
-    led = bowl.led(table)
-    return in_sequence([turned(Table(across(columns)), table) for columns in _columns_alike(led)])
+    return leading_tables(bowl, bowl)
 
 
 def keepers_lot(bowl):
@@ -36,17 +33,29 @@ def keepers_lot(bowl):
     return lot
 
 
-def _columns_alike(bowl):
-    """Lists of rows of the bowl, each two of which have as much between them as the unit rows at their places."""
-    last = bowl.rows[-1][-1]
-    rows = rows_to(bowl, last, MOST_ROWS)
+def leading_tables(bowl, goal):
+    """The sorted list of the Tables by which the bowl, led, is the goal, a bowl of its size."""
+    table, other = shortest_table(bowl), shortest_table(goal)
+    # The numbers at (i, i) of what both are led to are steps: no more rows come in question than need be.
+    found = _columns_alike(bowl.led(table), goal.led(other))
+    back = other.undone()
+    return in_sequence([table * Table(across(columns)) * back for columns in found])
+
+
+def _columns_alike(bowl, goal):
+    """Lists of rows of the bowl, each two of which have as much between them as the goal has at their places."""
+    # Asked for ahead of all: too many rows are told whatever the goal is.
+    rows = rows_to(bowl, bowl.rows[-1][-1], MOST_ROWS)
+    if bowl.determinant != goal.determinant:
+        return []
     told = [[]]
-    for line in bowl.rows:
-        # One more at a time, each with what the form tells of it with those ahead and with itself.
-        told = [columns + [row] for columns in told for row in rows if _fits(bowl, line, columns + [row])]
+    for place, line in enumerate(goal.rows):
+        # One more at a time, each with what the goal tells of it with itself and with those ahead.
+        near = [row for row in rows if bowl.worth(row) == line[place]]
+        told = [columns + [row] for columns in told for row in near if _fits(bowl, line, columns, row)]
     return told
 
 
-def _fits(bowl, line, columns):
-    """Whether the last column has the numbers of the line between each of the columns and itself."""
-    return all([bowl.between(column, columns[-1]) == number for column, number in zip(columns, line)])
+def _fits(bowl, line, columns, row):
+    """Whether the row has the numbers of the line between each of the columns and itself."""
+    return all([bowl.between(column, row) == number for column, number in zip(columns, line)])

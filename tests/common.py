@@ -187,6 +187,22 @@ def endless_lots():
     return [lot for lot, many in some_lots() if many is None]
 
 
+def lots_turned(lot, many, seed=1, greatest=3):
+    """The lot, and Lots of its makers turned by so many tables of some steps."""
+    yield lot
+    for table in some_tables(lot.size, many, seed=seed, greatest=greatest):
+        yield Lot([table * maker * table.undone() for maker in lot.makers()])
+
+
+def rows_of_lot(lot):
+    """The rows of all members of the lot, sorted, by hand."""
+    return members_by_hand(lot.makers())
+
+
+def led_by_hand(rows, row):
+    return tuple(sum(number * factor for number, factor in zip(line, row)) for line in rows)
+
+
 def members_by_hand(makers, most=60):
     """The rows of all products of makers and of undone ones, sorted; of an endless lot some."""
     steps = [maker.rows for maker in makers] + [maker.undone().rows for maker in makers]
@@ -206,6 +222,12 @@ def wrong_bowls():
 def wrong_lots():
     """What is no Lot, of every kind."""
     return WRONG + [0, 1, idle(2), [idle(2)], (idle(2),), Form([[1]]), Lot]
+
+
+def wrong_rows(size):
+    """What is no row of this size, of every kind."""
+    return WRONG + [0, 1, [], (), [1] * (size + 1), [1] * (size - 1), (0,) * (size + 1), [True] + [0] * (size - 1),
+                    [0] * (size - 1) + [None], ["1"] * size, [[1]] * size, idle(size), idle(size).rows + (1, 2, 3)]
 
 
 def wrong_makers():
