@@ -13,7 +13,7 @@ def worth_counts(bowl, many):
     """The list of how many rows have the worth 0, 1, .., many."""
     check_bowl(bowl)
     check_many(many, MOST_COUNTED)
-    return _counted(bowl, many)
+    return counted(bowl, many, MOST_ROWS)
 
 
 def unlike_worth(bowl, goal, many):
@@ -22,13 +22,18 @@ def unlike_worth(bowl, goal, many):
     check_bowl(goal)
     check_many(many, MOST_COUNTED)
     check_alike(bowl, goal)
-    counts, others = _counted(bowl, many), _counted(goal, many)
-    unlike = [worth for worth in range(many + 1) if counts[worth] != others[worth]]
-    return unlike[0] if len(unlike) > 0 else None
+    return first_unlike(counted(bowl, many, MOST_ROWS), counted(goal, many, MOST_ROWS))
 
 
-def _counted(bowl, many):
+def counted(bowl, many, most):
+    """The list of how many rows have the worth 0, 1, .., many; TooMany if there are more than most of them."""
     counts = [0] * (many + 1)
-    for row in rows_to(bowl, many, MOST_ROWS):
+    for row in rows_to(bowl, many, most):
         counts[bowl.worth(row)] += 1
     return counts
+
+
+def first_unlike(counts, others):
+    """The first position at which both lists have unlike numbers, None without one."""
+    unlike = [at for at, number in enumerate(counts) if number != others[at]]
+    return unlike[0] if len(unlike) > 0 else None

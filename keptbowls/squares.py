@@ -21,23 +21,24 @@ def is_squares(form, value):
     check_form(form)
     if not is_list(value) or len(value) != form.size:
         return False
-    if not all([_is_square(form.size, place, pair) for place, pair in enumerate(value)]):
+    if not all([is_square_at(form.size, place, pair) for place, pair in enumerate(value)]):
         return False
     return _adds_up(form.rows, value)
 
 
-def _leaned(rows, at, place):
-    """The determinant of the rows to the one at the position, with the places ahead of it and this place."""
-    return determinant_of(tuple([row[:at] + (row[place],) for row in rows[:at + 1]]))
-
-
-def _is_square(size, place, pair):
+def is_square_at(size, place, pair):
+    """Whether it is a tuple (bottom, row) as squares of this size have at the place."""
     if not isinstance(pair, tuple) or len(pair) != 2:
         return False
     bottom, row = pair
     if not is_integer(bottom) or bottom < 1 or not is_row_of(size, row):
         return False
     return row[place] != 0 and all([number == 0 for number in row[:place]])
+
+
+def _leaned(rows, at, place):
+    """The determinant of the rows to the one at the position, with the places ahead of it and this place."""
+    return determinant_of(tuple([row[:at] + (row[place],) for row in rows[:at + 1]]))
 
 
 def _adds_up(rows, told):

@@ -110,6 +110,63 @@ Lot([Table(((1, 1), (0, 1)))])
 [12, [Table(((-1,),)), Table(((1,),))], True, False]
 >>> [keepers_lot(sum_form(3)).total, keepers_lot(skew).members() == keepers(skew)]
 [48, True]
+
+>>> from keptbowls.leads import is_lead, is_unlike, lead, leads, least_form, least_lead
+>>> [least_form(skew), skew.led(least_lead(skew)) == sum_form(2), lead(hexagon, skew), len(leads(skew, sum_form(2)))]
+[Form(((1, 0), (0, 1))), True, None, 8]
+>>> [is_lead(sum_form(2), skew, Table([[1, 1], [2, 3]])), is_unlike(hexagon, skew, 1), is_unlike(hexagon, skew, 3), is_unlike(hexagon, skew, True)]
+[True, True, False, False]
+
+>>> from keptbowls.plane import is_kind_lead, kind_lead, plane_kind, told_lot
+>>> [plane_kind(Lot([Table([[1, 1], [0, -1]])])), plane_kind(keepers_lot(hexagon)), told_lot("4").makers()]
+['c', '6mm', [Table(((0, -1), (1, 0)))]]
+>>> [same_members(turned_lot(square, kind_lead(square)), told_lot("4mm")), is_kind_lead(square, idle(2)), is_kind_lead(square, Table([[1, 1], [0, 1]]))]
+[True, True, False]
+
+>>> from keptbowls.lots import Lot
+>>> from keptbowls.rounds import rest_rounds, round_of, rounds_within, stayers
+>>> from keptbowls.tables import Table
+>>> six, pair = Lot([Table([[0, -1], [1, 1]])]), Lot([Table([[0, 1], [1, 0]])])
+>>> [round_of(six, (1, 0)), stayers(pair, [2, 2]), rest_rounds(six, 3), len(rounds_within(six, 6))]
+[[(-1, 0), (-1, 1), (0, -1), (0, 1), (1, -1), (1, 0)], [Table(((0, 1), (1, 0))), Table(((1, 0), (0, 1)))], 3, 3]
+
+>>> from keptbowls.means import kept_part, mean_forms, mean_rounds, mean_trace, sum_table
+>>> [sum_table(pair), kept_part(pair, (3, -1)), mean_trace(pair), mean_forms(pair), mean_trace(six), mean_forms(six), mean_rounds(six, 3)]
+[((1, 1), (1, 1)), (2, 2), 1, 2, 0, 1, 3]
+
+>>> from keptbowls.degrees import averaged, degree_counts, is_kept_poly, poly_led, solved_count
+>>> [poly_led(Table([[0, -1], [1, 1]]), {(1, 1): 1}), averaged(six, {(2, 0): 1}), degree_counts(six, 6), solved_count(six, 4)]
+[{(0, 2): -1, (1, 1): -1}, {(0, 2): 4, (1, 1): 4, (2, 0): 4}, [1, 0, 1, 0, 1, 0, 3], 1]
+>>> [is_kept_poly(six, {(2, 0): 1, (1, 1): 1, (0, 2): 1}), is_kept_poly(pair, {(1, 0): 1})]
+[True, False]
+
+>>> from keptbowls.tables import Table
+>>> from keptbowls.texts import is_of, written
+>>> [written("table", Table([[0, -1], [1, 1]])), written("word", [1, -2, 1]), written("word", []), is_of("row", [1, True])]
+['table 0,-1;1,1\\n', 'word 1.-2.1\\n', 'word -\\n', False]
+
+>>> from keptbowls.readers import read
+>>> [read("row 1,-2\\n"), read("lot\\nmaker 0,-1;1,1\\nmaker 0,1;1,0\\n")[1].total, read("poly\\nproduct 1,1 -3\\nproduct 2,0 1\\n")]
+[('row', (1, -2)), 12, ('poly', {(1, 1): -3, (2, 0): 1})]
+
+>>> from keptbowls.forms import Form
+>>> from keptbowls.claims import contrary, is_paper_of, is_true
+>>> step, round_form = Table([[0, -1], [1, 1]]), Form([[2, 1], [1, 2]])
+>>> [is_true(("home", step)), contrary(("keeps", step, round_form))[0], is_paper_of(("keeps", step, round_form), [(0, 1), (-1, 1)]), is_paper_of(("bowl", round_form), [(2, (2, 1)), (6, (0, 3))]), is_paper_of(("pit", Form([[1, 2], [2, 1]])), (2, -1))]
+[True, 'breaks', True, True, True]
+
+>>> from keptbowls.commands import is_command, is_deed
+>>> [is_command("table a 0,-1;1,1"), is_command("table a 0,-1;1"), is_command("product l 1.-2.1"), is_command("product l 1.0"), is_command("power b a -99")]
+[True, False, True, False, True]
+>>> [is_deed("lot l a,m"), is_deed("count l"), is_command("claim c keeps a g")]
+[True, False, True]
+
+>>> from keptbowls.desk import Desk
+>>> desk = Desk()
+>>> desk.do_all("table a 0,-1;1,1", "table m 0,1;1,0", "lot l a,m", "claim f finite l", "count l", "bowl g l", "shown g", "orders l")
+['-', '-', '-', 'f true', '12', '-', 'form 2,1;1,2', '1:1 2:7 3:2 6:2']
+>>> desk.do_all("table s 1,1;0,1", "more l s", "count l", "undo", "order s", "point s 3,-1", "holds l s")
+['-', 'f false', 'endless', 'more l s', 'none', '2,-1', 'no']
 """
 
 
@@ -119,7 +176,7 @@ class Examples(unittest.TestCase):
         said = []
         told = doctest.DocTestRunner(verbose=False).run(held, out=said.append)
         self.assertEqual(told.failed, 0, "".join(said))
-        self.assertEqual(told.attempted, 59)
+        self.assertEqual(told.attempted, 91)
 
     def test_examples_of_the_readme(self):
         with open(README, encoding="utf-8") as source:

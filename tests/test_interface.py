@@ -27,6 +27,18 @@ FUNCTIONS = {
     "classes": "turned_members(lot,member) classes(lot) middle(lot) goes_together(lot) orders_of(lot)",
     "makers": "made_by(lot,members) fewest_makers(lot) some_makers(lot) is_makers(lot,value) sub_lots(lot)",
     "keepers": "is_keeper(bowl,value) keepers(bowl) keepers_lot(bowl)",
+    "leads": "lead(bowl,goal) is_lead(bowl,goal,value) leads(bowl,goal) is_unlike(bowl,goal,value) least_form(bowl) "
+             "least_lead(bowl)",
+    "plane": "told_lot(kind) plane_kind(lot) kind_lead(lot) is_kind_lead(lot,value)",
+    "rounds": "round_of(lot,row) stayers(lot,row) rounds_within(lot,many) rest_rounds(lot,modulus)",
+    "means": "sum_table(lot) kept_part(lot,row) mean_trace(lot) mean_forms(lot) mean_rounds(lot,modulus)",
+    "degrees": "poly_led(table,poly) averaged(lot,poly) is_kept_poly(lot,value) degree_counts(lot,many) "
+               "solved_count(lot,degree)",
+    "texts": "sorts() is_of(sort,value) written(sort,value)",
+    "readers": "read(text)",
+    "claims": "words() is_claim(value) is_true(claim) contrary(claim) paper_of(claim) is_paper_of(claim,value)",
+    "commands": "is_name(value) is_command(value) is_deed(value)",
+    "desk": "tried(desk,action)",
 }
 METHODS = {
     ("tables", "Table"): "__init__(rows) lead(row) undone() power(number) rests(modulus) __eq__(other) __repr__() "
@@ -35,9 +47,12 @@ METHODS = {
                        "__eq__(other) __repr__() __add__(other)",
     ("lots", "Lot"): "__init__(makers) makers() members() has(value) word_of(member) product(word) __eq__(other) "
                      "__repr__()",
+    ("desk", "Desk"): "__init__() __len__() __getitem__(name) __contains__(name) __call__(command) claim_of(label) "
+                      "do(command) do_all(commands) attempt(commands) attach(label,paper) fits(label) lines() copy()",
+    ("desk", "Trial"): "__init__(desk) __enter__() __exit__(kind,value,trace)",
 }
 PROPERTIES = {("tables", "Table"): "rows size determinant trace", ("forms", "Form"): "rows size determinant",
-              ("lots", "Lot"): "size is_finite total"}
+              ("lots", "Lot"): "size is_finite total", ("desk", "Desk"): "names labels"}
 
 
 def listed(text):
@@ -71,3 +86,13 @@ class Interface(unittest.TestCase):
             made = getattr(importlib.import_module(f"keptbowls.{file}"), kind)
             for name in text.split():
                 self.assertIsInstance(vars(made)[name], property)
+
+    def test_class_method_stands_in_its_class(self):
+        made = importlib.import_module("keptbowls.desk").Desk
+        self.assertIsInstance(vars(made)["again"], classmethod)
+        self.assertEqual(list(inspect.signature(made.again).parameters), ["lines"])
+
+    def test_many_commands_are_passed_one_by_one(self):
+        made = importlib.import_module("keptbowls.desk").Desk
+        for name in ("do_all", "attempt"):
+            self.assertEqual(str(inspect.signature(vars(made)[name])), "(self, *commands)")

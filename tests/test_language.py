@@ -18,7 +18,8 @@ NotImplemented property staticmethod classmethod super""".split())
 METHODS = set("""append clear copy count endswith extend find get index insert isalnum isalpha isdigit islower isspace isupper
 items join keys ljust lower lstrip partition pop remove replace reverse rfind rjust rpartition rsplit rstrip setdefault
 split splitlines startswith strip update upper values zfill bit_length""".split())
-DOUBLES = set("__init__ __eq__ __repr__ __str__ __len__ __enter__ __exit__ __call__ __iter__ __mul__ __add__".split())
+DOUBLES = set("""__init__ __eq__ __repr__ __str__ __len__ __enter__ __exit__ __call__ __iter__ __mul__ __add__ __contains__
+__getitem__""".split())
 BARRED = set("""register mro elements open input law version_info with_traceback add_note attrgetter breakpoint builtins compile
 copyright credits delattr dir eval exec exit gc getattr globals hasattr help id importlib license locals methodcaller os
 quit setattr type vars sys""".split())
@@ -26,7 +27,8 @@ BARRED_WORDS = re.compile(r"\b(type|typing|typing_extensions|enum|Enum|IntEnum|S
                           r"|namedtuple|NamedTuple|TypedDict|TYPE_CHECKING|abstractmethod|_wall|_WallAttr)\b"
                           r"|dataclass|overload|contextmanager")
 BARRED_NODES = (ast.Global, ast.AsyncFunctionDef, ast.AsyncFor, ast.AsyncWith, ast.Await, ast.Div, ast.MatMult, ast.Set,
-                ast.SetComp, ast.GeneratorExp, ast.Yield, ast.YieldFrom, ast.Try, ast.Import, ast.Is, ast.IsNot)
+                ast.SetComp, ast.GeneratorExp, ast.Yield, ast.YieldFrom, ast.Import, ast.Is, ast.IsNot,
+                ast.NamedExpr, ast.Delete, ast.Nonlocal, ast.Match, ast.AnnAssign)
 # Doctest leaves `_` among the builtins.
 TAKEN = set(dir(builtins)) - {"_"}
 FILES = sorted(os.listdir(FOLDER))
@@ -46,6 +48,11 @@ def bound_names(tree):
             yield node.arg
         if isinstance(node, (ast.FunctionDef, ast.ClassDef)):
             yield node.name
+
+
+def is_plain(value):
+    """Whether a value may stand at module level inside another one."""
+    return isinstance(value, (int, str)) or isinstance(value, tuple) and all(is_plain(one) for one in value)
 
 
 def docstrings(tree):
@@ -105,8 +112,8 @@ class Language(unittest.TestCase):
                 if isinstance(node, ast.Assign):
                     self.assertIsInstance(node.targets[0], ast.Name)
                     told = ast.literal_eval(node.value)
-                    for one in told if isinstance(told, tuple) else (told,):
-                        self.assertIsInstance(one, (int, str))
+                    parts = [*told, *told.values()] if isinstance(told, dict) else [told]
+                    self.assertTrue(all(is_plain(one) for one in parts))
 
     def test_names_l8_l12_l15_l17(self):
         for _, text, tree in self.each():
@@ -136,7 +143,9 @@ class Language(unittest.TestCase):
                     continue
                 self.assertNotIsInstance(node, BARRED_NODES)
                 if isinstance(node, ast.FunctionDef):
-                    self.assertIn([ast.unparse(one) for one in node.decorator_list], ([], ["property"]))
+                    self.assertIn([ast.unparse(one) for one in node.decorator_list], ([], ["property"], ["classmethod"]))
+                if isinstance(node, ast.Try):
+                    self.assertEqual([node.finalbody, node.orelse], [[], []])
                 if isinstance(node, ast.Compare) and any(isinstance(op, (ast.Is, ast.IsNot)) for op in node.ops):
                     self.assertIn(ast.unparse(node.comparators[0]), ("None", "True", "False"))
                 if isinstance(node, ast.BinOp) and isinstance(node.op, ast.Pow):
@@ -147,18 +156,61 @@ class Language(unittest.TestCase):
         for _, _, tree in self.each():
             for node in ast.walk(tree):
                 if isinstance(node, ast.Call) and isinstance(node.func, ast.Attribute):
-                    self.assertIn(node.func.attr, METHODS | own)
+                    self.assertIn(node.func.attr, METHODS | own | {"isascii"})
                 if isinstance(node, ast.Assign):
                     kept = isinstance(node.value, ast.Call) and ast.unparse(node.value.func)
                     self.assertNotIn(kept, ("zip", "enumerate", "reversed", "map"))
                 if isinstance(node, ast.Raise):
                     self.assertIsInstance(node.exc, ast.Call)
 
+    def test_classes_l5_l18_l28(self):
+        own = [node for _, _, tree in self.each() for node in ast.walk(tree) if isinstance(node, ast.ClassDef)]
+        methods, stored = {}, set()
+        for made in own:
+            for one in made.body:
+                if isinstance(one, ast.FunctionDef):
+                    methods.setdefault(one.name, []).append(bool(one.decorator_list))
+            for node in ast.walk(made):
+                if isinstance(node, ast.Attribute) and isinstance(node.ctx, ast.Store):
+                    stored.add(node.attr)
+            if any(one.name == "__getitem__" for one in made.body if isinstance(one, ast.FunctionDef)):
+                self.assertIn("__iter__", [one.name for one in made.body if isinstance(one, ast.FunctionDef)])
+        self.assertFalse(stored & set(methods))
+        self.assertFalse((stored | set(methods)) & (BARRED | {"items", "keys", "values", "args", "format", "sort", "encode"}))
+        # What is read off an object is stored somewhere, or a method or a property of this package or of Python.
+        for _, _, tree in self.each():
+            for node in ast.walk(tree):
+                if isinstance(node, ast.Attribute) and isinstance(node.ctx, ast.Load):
+                    self.assertIn(node.attr, stored | set(methods) | METHODS | {"isascii"})
+
+    def test_errors_l19(self):
+        own = {node.name for node in ast.parse(text_of("errors.py")).body if isinstance(node, ast.ClassDef)}
+        for _, _, tree in self.each():
+            imported = {alias.name for node in tree.body if isinstance(node, ast.ImportFrom) for alias in node.names}
+            for node in ast.walk(tree):
+                if isinstance(node, ast.ExceptHandler):
+                    names = node.type.elts if isinstance(node.type, ast.Tuple) else [node.type]
+                    self.assertTrue({name.id for name in names} <= own & imported)
+                if isinstance(node, ast.Raise):
+                    self.assertIn(node.exc.func.id, own & imported | {"TypeError"})
+
+    def test_names_in_comprehensions_l7(self):
+        kinds = (ast.ListComp, ast.DictComp, ast.SetComp, ast.GeneratorExp)
+        for _, _, tree in self.each():
+            for node in ast.walk(tree):
+                if isinstance(node, kinds):
+                    names = {one.id for part in node.generators for one in ast.walk(part.target) if isinstance(one, ast.Name)}
+                    within = [one for one in ast.walk(node) if isinstance(one, kinds) and one is not node]
+                    for inner in within:
+                        other = {one.id for part in inner.generators for one in ast.walk(part.target) if isinstance(one, ast.Name)}
+                        self.assertFalse((names & other) - {"_"})
+
     def test_strings_l27(self):
         for file, text, tree in self.each():
             for node in ast.walk(tree):
                 if isinstance(node, ast.Constant) and isinstance(node.value, str):
                     self.assertNotIn("%", node.value)
+                    self.assertFalse(node.value.endswith("._") or node.value.endswith(".__"))
                 self.assertFalse(isinstance(node, ast.Constant) and isinstance(node.value, (float, complex, bytes)))
             with warnings.catch_warnings():
                 warnings.simplefilter("error")
