@@ -138,7 +138,8 @@ def _paper(word, one, other):
         return one.word_of(other)
     if word == "outside":
         return one.members()
-    return order(one) if word == "home" else rest_order(one)
+    # Of a table that comes home this is the order, too.
+    return rest_order(one)
 
 
 def _is_paper(word, one, other, value):

@@ -65,13 +65,12 @@ def _shapes(texts):
 
 def _told(shape, text):
     """What the text tells by the shape, None if it is not of this shape."""
-    if shape == "claimed":
-        return text
     if shape == "tables":
         names = text.split(",")
         return names if len(names) <= MOST_MAKERS and all([is_name(name) for name in names]) else None
     if shape in ("rows", "row", "power", "count", "word"):
         return _numbers_told(shape, text) if _has_short_numbers(text) else None
+    # Words of claims are of the signs of names, too.
     return text if is_name(text) else None
 
 

@@ -52,12 +52,11 @@ def plane_kind(lot):
 def kind_lead(lot):
     """A kind lead of a finite lot of two columns, a Table."""
     kind = plane_kind(lot)
-    if kind in ("1", "2"):
-        return idle(2)
     if kind in ("m", "c", "2mm", "c2mm"):
         return Table(across(_mirrored_rows(_with_determinant(lot, -1)[0], kind))).undone()
     # With three turns or more all kept bowls are multiples of one another; so the least form of the kept
-    # bowl is what the told lot keeps, and only the kind tells which of its keepers are members.
+    # bowl is what the told lot keeps, and only the kind tells which of its keepers are members. Lots of the
+    # kinds 1 and 2 are turned into the told ones by any table.
     return least_lead(kept_bowl(lot)).undone()
 
 

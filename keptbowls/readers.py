@@ -16,7 +16,7 @@ def read(text):
         raise InvalidText(0)
     # Behind the last line feed stands nothing: the number of that part is the one of a line that lacks.
     lines = text.split("\n")
-    told = _first_told(lines[0]) if len(lines) > 1 else None
+    told = _first_told(lines[0])
     if told is None:
         raise InvalidText(1)
     sort, things = told
@@ -137,21 +137,16 @@ def _next_product(pairs, words):
 def _next_square(pairs, words):
     if len(words) != 3 or words[0] != "square":
         return None
-    pair = (integer_of(words[1]), row_of(words[2]))
-    size = _size_of_squares(pairs + [pair])
-    return pair if len(pairs) < size and is_square_at(size, len(pairs), pair) else None
-
-
-def _size_of_squares(pairs):
-    """How many squares there are beside the first one, 0 if it has no row."""
-    row = pairs[0][1]
-    return 0 if row is None else len(row)
+    bottom, row = integer_of(words[1]), row_of(words[2])
+    if row is None or len(pairs) == len(row) or (len(pairs) > 0 and len(pairs[0][1]) != len(row)):
+        return None
+    return (bottom, row) if is_square_at(len(row), len(pairs), (bottom, row)) else None
 
 
 def _is_whole(sort, things):
     """Whether these things are enough for a value of the sort."""
     if sort == "squares":
-        return len(things) > 0 and len(things) == _size_of_squares(things)
+        return len(things) > 0 and len(things) == len(things[0][1])
     return sort == "poly" or len(things) > 0
 
 

@@ -1,3 +1,5 @@
+from unittest.mock import patch
+
 from common import BIG, NO_BOWLS, WRONG, Case, by_hand, endless_lots, finite_lots, led_by_hand, some_bowls, some_grids
 from common import some_tables, worth_by_hand
 from keptbowls.claims import contrary, is_claim, is_paper_of, is_true, paper_of, words
@@ -264,6 +266,16 @@ class UnlikePapers(Case):
             self.fails(TooMany, paper_of, claim, what="worth", limit=400)
             self.assertEqual([is_paper_of(claim, value) for value in (0, 400, 401, one)], [False] * 4)
             self.assertIsNone(paper_of(contrary(claim)))
+
+    def test_more_rows_than_are_let(self):
+        # No bowls of which one may ask are known that have so many rows ahead of an unlike worth: so fewer are let here.
+        for one, other, least, rows in (([[1]], [[4]], 1, 3), ([[4]], [[1]], 1, 3), ([[2, 1], [1, 2]], [[2, 1], [1, 3]], 2, 7),
+                                        ([[1, 0], [0, 9]], [[1, 0], [0, 10]], 9, 9)):
+            claim = ("unlike", Form(one), Form(other))
+            with patch("keptbowls.claims.MOST_ROWS", rows):
+                self.assertEqual(paper_of(claim), least)
+            with patch("keptbowls.claims.MOST_ROWS", rows - 1):
+                self.fails(TooMany, paper_of, claim, what="rows", limit=rows - 1)
 
     def test_too_many_rows(self):
         # All worths below 66 have like many rows.

@@ -86,7 +86,7 @@ class Commands(Case):
         for word in ("table", "form"):
             for rows in WRONG_ROWS:
                 self.assertIs(is_command(f"{word} a {rows}"), False)
-            for rows in ("0", "-1", "5", "0,0;0,0", "1,2;3,4", "1,2,3;4,5,6;7,8,-9", "9" * 30, "-" + "9" * 30, "1,0;0,-" + "9" * 30):
+            for rows in ("0", "-1", "5", "0,0;0,0", "1,2;3,4", "1,2,3;4,5,6;7,8,-9", "9" * 30, "-" + "9" * 30, "1,0;0,-" + "9" * 30, "1,0;" + "9" * 30 + ",1"):
                 self.assertIs(is_command(f"{word} a {rows}"), True)
         for word in ("point", "worth"):
             for row in ("", "-", "1;2", "1,2,3,4", "01", "-0", "1,", ",1", "a", "1.2", "1" * 31, "1,-" + "1" * 31, "1 2"):

@@ -137,7 +137,7 @@ class Questions(DeskCase):
             "holds t z": "no"}
         ahead = seen(desk)
         for command, told in wanted.items():
-            self.assertEqual([command, desk.do(command)], [command, told])
+            self.assertEqual([command, desk.do(command=command)], [command, told])
             self.assertEqual(desk(command), told)
         self.assertEqual(seen(desk), ahead)
         self.assertEqual([Desk().do("names"), Desk().do("states")], ["-", "-"])

@@ -143,9 +143,11 @@ class Papers(Case):
         members.reverse()
         members.pop()
         self.assertEqual([desk.fits("e"), desk.fits("o")], [True, True])
-        word = [1, 2]
-        desk.attach("e", (word, 100) if is_paper_of(desk.claim_of("e"), (word, 100)) else ([2], 3))
+        word = [2]
+        desk.attach("e", (word, 3))
+        word.clear()
         self.assertIs(desk.fits("e"), True)
+        self.fails(InvalidPaper, desk.attach, "e", (word, 3), value=([], 3))
 
     def test_papers_are_no_deeds(self):
         desk = full("claim f finite l")

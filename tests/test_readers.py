@@ -171,6 +171,10 @@ class WrongLines(Case):
             for _, text in known:
                 for more in ("\n", "row 1\n", "x", "table 1\n", " ", "lot\n", "\n\n"):
                     self.wrong(text + more, text.count("\n") + 1)
+        for sort in ("row", "table", "form", "word"):
+            for _, text in KNOWN[sort]:
+                for more in ("square 1 1\n", "square 1 1,0\n", "maker 1\n", "product 1,1 1\n"):
+                    self.wrong(text + more, 2)
         for text in ("lot\n" + "maker 1\n" * 5, "lot\n" + "maker -1\n" * 4 + "maker 2\n"):
             self.wrong(text, 6)
         self.wrong("squares\nsquare 1 1\nsquare 1 1\n", 3)
