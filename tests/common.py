@@ -159,6 +159,19 @@ def rows_in_box(rows, many):
     return [row for row in product(*sides) if worth_by_hand(rows, row) <= many]
 
 
+def leads_by_hand(rows, goal):
+    """The rows of all tables that lead the one form to the other one, sorted."""
+    size = len(rows)
+    known = rows_in_box(rows, max(goal[i][i] for i in range(size)))
+    choices = [[row for row in known if worth_by_hand(rows, row) == goal[i][i]] for i in range(size)]
+    told = []
+    for columns in product(*choices):
+        grid = tuple(zip(*columns))
+        if by_hand(grid) in (1, -1) and grids_times(grids_times(columns, rows), grid) == tuple(map(tuple, goal)):
+            told.append(grid)
+    return sorted(told)
+
+
 def some_bowls(size, many, seed=1, greatest=3):
     """The rows of bowls, each the sums of products of the columns of a grid that has a determinant."""
     source = random.Random(f"bowl {size} {many} {seed}")

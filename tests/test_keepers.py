@@ -1,6 +1,4 @@
-from itertools import product
-
-from common import BIG, WRONG, Case, by_hand, grids_times, rows_in_box, some_bowls, some_tables, worth_by_hand, wrong_bowls
+from common import BIG, WRONG, Case, leads_by_hand, rows_in_box, some_bowls, some_tables, wrong_bowls
 from keptbowls.errors import InvalidBowl, TooMany
 from keptbowls.forms import Form, sum_form
 from keptbowls.keepers import is_keeper, keepers, keepers_lot
@@ -16,19 +14,6 @@ KNOWN = [([[1]], 2), ([[BIG]], 2), ([[1, 0], [0, 1]], 8), ([[2, 1], [1, 2]], 12)
          ([[1, 0, 0], [0, 2, 0], [0, 0, 2]], 16), ([[4, 1, 1], [1, 4, 1], [1, 1, 4]], 12), ([[1, 0, 0], [0, 2, 0], [0, 0, 3]], 8),
          ([[2, 1, 0], [1, 5, 0], [0, 0, 3]], 8), ([[3, 1, 0], [1, 5, 0], [0, 0, 4]], 4), ([[3, 1, 1], [1, 7, 2], [1, 2, 9]], 2),
          ([[BIG, 0, 0], [0, 2 * BIG, 0], [0, 0, 3 * BIG]], 8)]
-
-
-def keepers_by_hand(rows):
-    """The rows of all tables whose columns have what the bowl has at their places, sorted."""
-    size = len(rows)
-    known = rows_in_box(rows, max(rows[i][i] for i in range(size)))
-    choices = [[row for row in known if worth_by_hand(rows, row) == rows[i][i]] for i in range(size)]
-    told = []
-    for columns in product(*choices):
-        grid = tuple(zip(*columns))
-        if by_hand(grid) in (1, -1) and grids_times(grids_times(columns, rows), grid) == tuple(map(tuple, rows)):
-            told.append(grid)
-    return sorted(told)
 
 
 class Keepers(Case):
@@ -47,7 +32,7 @@ class Keepers(Case):
         for size, many in ((1, 3), (2, 40), (3, 25)):
             for rows in some_bowls(size, many, seed=41, greatest=2):
                 if len(rows_in_box(rows, max(rows[i][i] for i in range(size)))) < 200:
-                    self.assertEqual([one.rows for one in keepers(Form(rows))], keepers_by_hand(rows))
+                    self.assertEqual([one.rows for one in keepers(Form(rows))], leads_by_hand(rows, rows))
 
     def test_led(self):
         for rows, many in KNOWN:

@@ -1,6 +1,4 @@
-from itertools import product
-
-from common import BIG, WRONG, Case, by_hand, grids_times, rows_in_box, some_bowls, some_tables, worth_by_hand, wrong_bowls
+from common import BIG, WRONG, Case, leads_by_hand, rows_in_box, some_bowls, some_tables, wrong_bowls
 from keptbowls.counts import worth_counts
 from keptbowls.errors import InvalidBowl, TooMany, TooWide, UnlikeSizes
 from keptbowls.forms import Form, sum_form
@@ -21,19 +19,6 @@ APART = [[[[1, 0], [0, 6]], [[2, 0], [0, 3]]],
 
 def diagonal(*numbers):
     return Form([[number if i == j else 0 for j in range(len(numbers))] for i, number in enumerate(numbers)])
-
-
-def leads_by_hand(rows, goal):
-    """The rows of all tables that lead the one form to the other one, sorted."""
-    size = len(rows)
-    known = rows_in_box(rows, max(goal[i][i] for i in range(size)))
-    choices = [[row for row in known if worth_by_hand(rows, row) == goal[i][i]] for i in range(size)]
-    told = []
-    for columns in product(*choices):
-        grid = tuple(zip(*columns))
-        if by_hand(grid) in (1, -1) and grids_times(grids_times(columns, rows), grid) == tuple(map(tuple, goal)):
-            told.append(grid)
-    return sorted(told)
 
 
 class Leads(Case):

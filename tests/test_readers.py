@@ -8,7 +8,7 @@ from keptbowls.forms import Form
 from keptbowls.lots import Lot
 from keptbowls.readers import read
 from keptbowls.squares import is_squares, squares
-from keptbowls.tables import Table, idle
+from keptbowls.tables import idle
 from keptbowls.texts import written
 from test_texts import KNOWN
 
